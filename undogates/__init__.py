@@ -1,0 +1,1 @@
+"""Undogates: rows of gates that lose nothing."""
