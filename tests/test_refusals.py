@@ -5,7 +5,7 @@ import unittest
 from undogates.errors import NoGate, NoWires
 from undogates.rows import led
 
-from helper import CALLS, NO_WIRES, STATES, WIRES, all_gates, all_swaps, all_turns, long_row
+from helper import CALLS, NO_WIRES, STATES, WIRES, Case, all_gates, all_swaps, all_turns, long_row
 
 FAR = 10 ** 5000
 
@@ -59,14 +59,7 @@ def bad_gates(wires):
     return bad_turns(wires) + bad_swaps(wires)
 
 
-class RefusalCase(unittest.TestCase):
-    def assert_refused(self, error, call, *arguments):
-        with self.assertRaises(error) as caught:
-            call(*arguments)
-        self.assertIs(type(caught.exception), error)
-
-
-class TestWires(RefusalCase):
+class TestWires(Case):
     def test_one_to_four_wires_are_taken(self):
         for name, call in CALLS:
             for wires in WIRES:
@@ -96,7 +89,7 @@ class TestWires(RefusalCase):
                     self.assert_refused(NoWires, led, wires, [], state)
 
 
-class TestGates(RefusalCase):
+class TestGates(Case):
     def test_how_many_gates_there_are(self):
         # Each wire watches any choice of the others; each two wires swap.
         counts = [(len(all_turns(wires)), len(all_swaps(wires))) for wires in WIRES]
@@ -133,7 +126,7 @@ class TestGates(RefusalCase):
                 self.assert_refused(NoGate, led, 3, [("swap", 2, 1)], state)
 
 
-class TestLength(RefusalCase):
+class TestLength(Case):
     def test_a_row_of_1000_gates_is_taken(self):
         for name, call in CALLS:
             for wires in WIRES:

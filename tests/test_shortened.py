@@ -5,7 +5,7 @@ import unittest
 
 from undogates.rows import shortened, table_of, undone
 
-from helper import WIRES, RowCase, all_gates, long_row, some_rows
+from helper import WIRES, Case, all_gates, long_row, some_rows
 
 A = ("turn", 0, ())
 B = ("turn", 1, (0,))
@@ -65,7 +65,7 @@ def rows_of_few_gates(wires):
     return [[source.choice(gates) for _ in range(40)] for _ in range(30)]
 
 
-class TestShortened(RowCase):
+class TestShortened(Case):
     def test_rows_by_hand(self):
         for row, left in BY_HAND:
             with self.subTest(row=row):
@@ -112,7 +112,7 @@ class TestShortened(RowCase):
                     self.assert_same(shortened(wires, row + undone(wires, row)), [])
 
 
-class TestThousandGates(RowCase):
+class TestThousandGates(Case):
     def test_one_gate_a_thousand_times(self):
         self.assert_same(shortened(1, [A] * 1000), [])
         self.assert_same(shortened(1, [A] * 999), [A])

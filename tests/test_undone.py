@@ -4,10 +4,10 @@ import unittest
 
 from undogates.rows import led, table_of, undone
 
-from helper import STATES, WIRES, RowCase, all_gates, long_row, some_rows
+from helper import STATES, WIRES, Case, all_gates, long_row, some_rows
 
 
-class TestUndone(RowCase):
+class TestUndone(Case):
     def test_rows_by_hand(self):
         self.assert_same(undone(1, []), [])
         self.assert_same(undone(2, [("swap", 0, 1)]), [("swap", 0, 1)])
